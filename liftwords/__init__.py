@@ -1,0 +1,1 @@
+"""Liftwords: words whose letters go up and down."""
