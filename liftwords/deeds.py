@@ -2,7 +2,7 @@
 
 from liftwords.errors import BadDeed, Stuck
 from liftwords.kinds import is_between, is_listing
-from liftwords.words import check_size
+from liftwords.words import bracketed, check_size
 
 MOST_DEEDS = 1000
 
@@ -33,6 +33,18 @@ def done(word, deed):
     if deed > 0:
         return word.up(deed)
     return word.down(-deed)
+
+
+def steps_from(size, letters):
+    """All deeds that can be done on the letters of a word, each with the letters that come of it."""
+    steps = []
+    for i in range(1, size):
+        lows, highs = bracketed(letters, i)[1:]
+        if lows:
+            steps.append((i, letters[:lows[-1]] + (i + 1,) + letters[lows[-1] + 1:]))
+        if highs:
+            steps.append((-i, letters[:highs[0]] + (i,) + letters[highs[0] + 1:]))
+    return steps
 
 
 def followed(word, row):

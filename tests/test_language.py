@@ -16,6 +16,8 @@ BARRED = re.compile(r"\b(type|typing|typing_extensions|enum|Enum|IntEnum|StrEnum
                     r"ABCMeta|namedtuple|NamedTuple|TypedDict|TYPE_CHECKING|abstractmethod)\b|"
                     r"dataclass|overload|contextmanager")
 FUNCTIONS = (ast.FunctionDef, ast.Lambda)
+# What these give is not kept.
+AT_ONCE = ("zip", "enumerate", "reversed", "range", "items", "keys", "values")
 
 
 def nodes(kind):
@@ -24,6 +26,13 @@ def nodes(kind):
         for node in ast.walk(ast.parse(path.read_text())):
             if isinstance(node, kind):
                 yield path.name, node
+
+
+def called(node):
+    """The name of the function or method that an expression calls, or None."""
+    if not isinstance(node, ast.Call):
+        return None
+    return node.func.id if isinstance(node.func, ast.Name) else node.func.attr
 
 
 class Language(unittest.TestCase):
@@ -71,6 +80,33 @@ class Language(unittest.TestCase):
             self.assertNotIsInstance(node.value, (float, complex), name)
             if isinstance(node.value, str):
                 self.assertNotIn("%", node.value, name)
+
+    def test_what_is_iterated_at_once(self):
+        for name, node in nodes((ast.Assign, ast.Return)):
+            self.assertNotIn(called(node.value), AT_ONCE, (name, node.lineno))
+        for name, node in nodes(ast.Call):
+            if called(node) == "reversed":
+                self.assertIn(called(node.args[0]), ("list", "tuple", "sorted", "range"), (name, node.lineno))
+
+    def test_lists_where_classes_have_operators(self):
+        # A generator expression is not passed where own operators could be called.
+        self.assertEqual([(name, node.lineno) for name, node in nodes(ast.GeneratorExp)], [])
+
+    def test_generators_are_iterated_at_once(self):
+        generators = {node.name for name, node in nodes(ast.FunctionDef)
+                      if any(isinstance(inner, ast.Yield) for inner in ast.walk(node))}
+        iterated = [node.iter for name, node in nodes((ast.For, ast.comprehension))]
+        iterated += [node.args[0] for name, node in nodes(ast.Call) if called(node) in ("list", "tuple") and node.args]
+        places = {(node.lineno, node.col_offset, called(node)) for node in iterated if called(node) in generators}
+        for name, node in nodes(ast.Call):
+            if called(node) in generators:
+                self.assertIn((node.lineno, node.col_offset, called(node)), places, name)
+
+    def test_methods_and_attributes_have_names_of_their_own(self):
+        methods = {node.name for name, owner in nodes(ast.ClassDef) for node in owner.body
+                   if isinstance(node, ast.FunctionDef)}
+        stored = {node.attr for name, node in nodes(ast.Attribute) if isinstance(node.ctx, ast.Store)}
+        self.assertEqual(methods & stored, set())
 
     def test_statements_that_are_not_used(self):
         barred = (ast.Global, ast.AsyncFunctionDef, ast.AsyncFor, ast.AsyncWith, ast.Await, ast.Div)
