@@ -237,8 +237,9 @@ def joined_tops(house, behind):
     lengths = padded(behind.shape, behind.size)
     found = {}
     for table in house.tables():
-        if all([table.downs(i) <= limit for i, limit in enumerate(limits, start=1)]):
-            shape = unpadded([many + more for many, more in zip(table.counts(), lengths)])
+        reading = table.reading()
+        if all([reading.downs(i) <= limit for i, limit in enumerate(limits, start=1)]):
+            shape = unpadded([many + more for many, more in zip(reading.counts(), lengths)])
             if shape not in found:
                 found[shape] = []
             found[shape].append(table)
