@@ -2,7 +2,7 @@
 
 from liftwords.errors import BadDeed, Stuck
 from liftwords.kinds import is_between, is_listing
-from liftwords.words import bracketed, check_size
+from liftwords.words import Word, bracketed, check_size
 
 MOST_DEEDS = 1000
 
@@ -21,25 +21,11 @@ def check_row(size, row):
             raise BadDeed(place)
 
 
-def can_do(word, deed):
-    """Whether one deed can be done on a word."""
-    if deed > 0:
-        return word.ups(deed) > 0
-    return word.downs(-deed) > 0
-
-
-def done(word, deed):
-    """The word that comes of one deed."""
-    if deed > 0:
-        return word.up(deed)
-    return word.down(-deed)
-
-
 def steps_from(size, letters):
     """All deeds that can be done on the letters of a word, each with the letters that come of it."""
     steps = []
     for i in range(1, size):
-        lows, highs = bracketed(letters, i)[1:]
+        pairs, lows, highs = bracketed(letters, i)
         if lows:
             steps.append((i, letters[:lows[-1]] + (i + 1,) + letters[lows[-1] + 1:]))
         if highs:
@@ -47,24 +33,67 @@ def steps_from(size, letters):
     return steps
 
 
+class Walk:
+    """A word that deeds change, with what is left over at each index as long as that is known."""
+
+    def __init__(self, word):
+        self.size = word.size
+        self.held = list(word.letters)
+        # By index, the places left over, and at how many of them, the first ones, the letter is the index.
+        self.free = [None] * (word.size + 1)
+        self.low = [0] * (word.size + 1)
+
+    def look(self, i):
+        """Find out what is left over at an index."""
+        pairs, lows, highs = bracketed(self.held, i)
+        self.free[i] = lows + highs
+        self.low[i] = len(lows)
+
+    def go(self, deed):
+        """Do a deed if it can be done, and tell whether it could."""
+        i = abs(deed)
+        if self.free[i] is None:
+            self.look(i)
+        free = self.free[i]
+        low = self.low[i]
+        if low == (0 if deed > 0 else len(free)):
+            return False
+        if deed > 0:
+            self.low[i] = low - 1
+            self.held[free[low - 1]] = i + 1
+        else:
+            self.low[i] = low + 1
+            self.held[free[low]] = i
+        # The same places stay left over at this index, but not at the indexes beside it.
+        self.free[i - 1] = self.free[i + 1] = None
+        return True
+
+    def reached(self):
+        """The word that has come so far."""
+        return Word(self.size, self.held)
+
+
 def followed(word, row):
-    """How far a row of deeds leads: the word there, and the place of the deed that is stuck, or None."""
+    """How far a row of deeds leads: the walk, and the place of the deed that is stuck, or None."""
+    walk = Walk(word)
     for place, deed in enumerate(row):
-        if not can_do(word, deed):
-            return word, place
-        word = done(word, deed)
-    return word, None
+        if not walk.go(deed):
+            return walk, place
+    return walk, None
 
 
 def climbed(word, deeds):
     """Do always the first of some deeds that can be done, until none can: the row, and the word there."""
+    walk = Walk(word)
     row = []
-    able = [deed for deed in deeds if can_do(word, deed)]
-    while able:
-        row.append(able[0])
-        word = done(word, able[0])
-        able = [deed for deed in deeds if can_do(word, deed)]
-    return tuple(row), word
+    at = 0
+    while at < len(deeds):
+        if walk.go(deeds[at]):
+            row.append(deeds[at])
+            at = 0
+        else:
+            at += 1
+    return tuple(row), walk.reached()
 
 
 def all_downs(size):
@@ -80,10 +109,10 @@ def all_ups(size):
 def run(word, row):
     """The word that comes of a row of deeds."""
     check_row(word.size, row)
-    reached, stuck = followed(word, row)
+    walk, stuck = followed(word, row)
     if stuck is not None:
         raise Stuck(stuck)
-    return reached
+    return walk.reached()
 
 
 def can(word, row):
@@ -99,8 +128,7 @@ def first_stuck(word, row):
 
 def deeds_of(word):
     """The deeds that can be done on a word, ascending."""
-    deeds = sorted(all_downs(word.size) + all_ups(word.size))
-    return tuple([deed for deed in deeds if can_do(word, deed)])
+    return tuple(sorted([deed for deed, after in steps_from(word.size, word.letters)]))
 
 
 def inverse(size, row):

@@ -9,7 +9,8 @@ def is_whole(value):
 
 def is_between(value, least, most):
     """Whether a value is an integer from least to most."""
-    return is_whole(value) and least <= value <= most
+    # Asked of each letter and each deed: not by is_whole, which would take twice as long.
+    return isinstance(value, int) and not isinstance(value, bool) and least <= value <= most
 
 
 def is_listing(value):

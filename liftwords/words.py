@@ -33,18 +33,19 @@ def check_letters(size, letters):
 
 def bracketed(letters, i):
     """Read i + 1 and i as brackets: the pairs, the i left over, the i + 1 left over, all by places."""
+    opening = i + 1
     pairs = []
     lows = []
     waiting = []
     for place, letter in enumerate(letters):
-        if letter == i + 1:
+        if letter == opening:
             waiting.append(place)
-        elif letter == i and waiting:
-            pairs.append((waiting.pop(), place))
         elif letter == i:
-            lows.append(place)
-    # Pairs are found by their closing brackets, but told by their opening ones.
-    return tuple(sorted(pairs)), tuple(lows), tuple(waiting)
+            if waiting:
+                pairs.append((waiting.pop(), place))
+            else:
+                lows.append(place)
+    return pairs, lows, waiting
 
 
 def with_letter(word, place, letter):
@@ -102,12 +103,14 @@ class Word:
     def pairs(self, i):
         """The places of each i + 1 that has a partner and of the i that is its partner, ascending."""
         check_index(self.size, i)
-        return bracketed(self.letters, i)[0]
+        # They were found by their closing brackets, but are told by their opening ones.
+        return tuple(sorted(bracketed(self.letters, i)[0]))
 
     def spare(self, i):
         """The places of the i left over, and the places of the i + 1 left over."""
         check_index(self.size, i)
-        return bracketed(self.letters, i)[1:]
+        pairs, lows, highs = bracketed(self.letters, i)
+        return tuple(lows), tuple(highs)
 
     def ups(self, i):
         """How many times up at i can be done, one after another."""

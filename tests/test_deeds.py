@@ -1,3 +1,4 @@
+import sys
 import unittest
 
 from liftwords import deeds
@@ -164,6 +165,90 @@ class Rows(unittest.TestCase):
         self.assertEqual(inverse(row=[2, 1], size=3), (-1, -2))
         for call in (deeds_of, to_top, to_bottom, top_of, bottom_of):
             self.assertEqual(call(word=word), call(word))
+
+
+def long_row(size, letters, length):
+    """A long row of mixed deeds that can be done, the letters that come, and a deed that cannot be done on them."""
+    state = 4711 + size
+    choice = all_deeds(size)
+    row = []
+    while True:
+        state = (state * 1103515245 + 12345) % 2 ** 31
+        deed = choice[(state >> 12) % len(choice)]
+        after = plain_deed(letters, deed)
+        if after is None and len(row) == length:
+            return tuple(row), letters, deed
+        if after is not None and len(row) < length:
+            row.append(deed)
+            letters = after
+        elif len(row) == length and all(plain_deed(letters, deed) for deed in choice):
+            return tuple(row), letters, None
+
+
+def lines_run(call):
+    """How many lines a call goes through: a measure of its work that is the same on each machine."""
+    lines = 0
+
+    def trace(frame, event, arg):
+        nonlocal lines
+        lines += event == "line"
+        return trace
+
+    before = sys.gettrace()
+    sys.settrace(trace)
+    try:
+        call()
+    finally:
+        sys.settrace(before)
+    return lines
+
+
+class LongRows(unittest.TestCase):
+
+    def test_against_the_plain_reading(self):
+        for size in SIZES:
+            for letters in (*list(long_letters(size))[-4:], tuple(1 + k * k % size for k in range(40))):
+                word = Word(size, letters)
+                row, wanted, stuck = long_row(size, letters, 300)
+                self.assertEqual(run(word, row), Word(size, wanted))
+                self.assertEqual(run(word, list(row[:-1])), run(Word(size, wanted), inverse(size, row[-1:])))
+                self.assertIsNone(first_stuck(word, row))
+                self.assertEqual(run(run(word, row), inverse(size, row)), word)
+                if stuck is not None:
+                    self.assertEqual(first_stuck(word, (*row, stuck, *row)), len(row))
+                    self.assertEqual(refusal(self, Stuck, run, word, [*row, stuck]).place, len(row))
+                    self.assertIs(can(word, [*row, stuck]), False)
+                self.assertEqual(word, Word(size, letters))
+
+    def test_a_thousand_mixed_deeds(self):
+        for size in (3, 6):
+            letters = tuple(1 + k * 7 % size for k in range(40))
+            row, wanted, stuck = long_row(size, letters, 1000)
+            self.assertEqual(run(Word(size, letters), row), Word(size, wanted))
+            self.assertEqual(run(Word(size, wanted), inverse(size, row)), Word(size, letters))
+
+    def test_a_thousand_deeds_on_forty_letters(self):
+        for size in SIZES:
+            word = Word(size, [1] * 40)
+            self.assertEqual(run(word, [1, -1] * 500), word)
+            self.assertEqual(run(word, [1] * 40 + [-1, 1] * 480), Word(size, [2] * 40))
+            self.assertEqual(first_stuck(word, [1] * 40 + [-1, 1] * 479 + [1, -1]), 998)
+
+    def test_the_work_does_not_grow_with_the_letters(self):
+        # A deed at the index of the deed before it costs the same on a long word as on a short one.
+        row = [1, -1] * 500
+        for size in (2, 6):
+            few = lines_run(lambda: run(Word(size, [1]), row))
+            many = lines_run(lambda: run(Word(size, [1] * 40), row))
+            self.assertLess(many, few + 1000)
+            self.assertLess(many, 30000)
+
+    def test_the_work_of_mixed_deeds(self):
+        # At most one reading of the letters for each deed.
+        for size in (3, 6):
+            letters = tuple(1 + k * 7 % size for k in range(40))
+            row = long_row(size, letters, 300)[0]
+            self.assertLess(lines_run(lambda: run(Word(size, letters), row)), 300 * 40 * 4)
 
 
 class ToTheEnds(unittest.TestCase):
