@@ -193,7 +193,7 @@ class House:
         found = {padded(self.shape, self.size): 1}
         for letter in range(self.size, 1, -1):
             found = lowered(found, counts[letter - 1])
-        return sum(found.values())
+        return sum(list(found.values()))
 
     def rank(self, table):
         """How many downs lead from a table to the top."""
@@ -282,4 +282,4 @@ def multiplicity(house, behind, shape):
     found = {(top, shadow): 1 for shadow in lower_shadows_of(top, sum(top) - counts[-1])}
     for number, limit in list(zip(counts, spare_limits(behind)))[::-1]:
         found = lowered_tops(found, number, limit)
-    return sum(found.values())
+    return sum(list(found.values()))
