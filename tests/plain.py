@@ -1,5 +1,6 @@
 """A slow and plain reading of points [11] to [13], samples, and what several tests ask for."""
 
+import sys
 from itertools import product
 
 SIZES = (2, 3, 4, 5, 6)
@@ -17,6 +18,24 @@ def refusal(case, error, call, *args, **named):
         call(*args, **named)
     case.assertIs(type(caught.exception), error)
     return caught.exception
+
+
+def lines_run(call):
+    """How many lines a call goes through: a measure of its work that is the same on each machine."""
+    lines = 0
+
+    def trace(frame, event, arg):
+        nonlocal lines
+        lines += event == "line"
+        return trace
+
+    before = sys.gettrace()
+    sys.settrace(trace)
+    try:
+        call()
+    finally:
+        sys.settrace(before)
+    return lines
 
 
 def short_letters(size):

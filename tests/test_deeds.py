@@ -1,11 +1,11 @@
-import sys
 import unittest
 
 from liftwords import deeds
 from liftwords.deeds import bottom_of, can, deeds_of, first_stuck, inverse, run, to_bottom, to_top, top_of
 from liftwords.errors import BadDeed, BadSize, Stuck
 from liftwords.words import Word
-from tests.plain import (OTHER_KINDS, SIZES, THOUSAND_DIGITS, long_letters, plain_deed, refusal, samples)
+from tests.plain import (OTHER_KINDS, SIZES, THOUSAND_DIGITS, lines_run, long_letters, plain_deed, refusal,
+                         samples)
 
 NO_ROWS = (None, True, False, 0, 1, -1, "", "1", b"\x01", {}, {1: 1}, {1}, range(2), object(), slice(0, 1), iter([1]),
            THOUSAND_DIGITS, Word(3, [1]))
@@ -183,24 +183,6 @@ def long_row(size, letters, length):
             letters = after
         elif len(row) == length and all(plain_deed(letters, deed) for deed in choice):
             return tuple(row), letters, None
-
-
-def lines_run(call):
-    """How many lines a call goes through: a measure of its work that is the same on each machine."""
-    lines = 0
-
-    def trace(frame, event, arg):
-        nonlocal lines
-        lines += event == "line"
-        return trace
-
-    before = sys.gettrace()
-    sys.settrace(trace)
-    try:
-        call()
-    finally:
-        sys.settrace(before)
-    return lines
 
 
 class LongRows(unittest.TestCase):
