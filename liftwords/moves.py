@@ -66,17 +66,23 @@ def after_move(size, letters, move):
     return None
 
 
+def made(size, letters, move, number):
+    """The letters that come of a value if it is a move that can be made; it is refused by its number."""
+    after = after_move(size, letters, move) if is_move(move) else None
+    if after is None:
+        raise BadMove(number)
+    if len(after) > MOST_LETTERS:
+        raise TooGreat(MOST_LETTERS)
+    return after
+
+
 def walked(word, moves):
     """The word that comes of moves, one after another."""
     if not is_listing(moves):
         raise BadMove(None)
     letters = word.letters
     for number, move in enumerate(moves):
-        letters = after_move(word.size, letters, move) if is_move(move) else None
-        if letters is None:
-            raise BadMove(number)
-        if len(letters) > MOST_LETTERS:
-            raise TooGreat(MOST_LETTERS)
+        letters = made(word.size, letters, move, number)
     return Word(word.size, letters)
 
 
