@@ -121,8 +121,8 @@ def falling_sums(bag):
     """By falling counts, the signed sums of a bag that has counts in each order equally often; the others are 0."""
     sums = {}
     for key in bag:
-        # With equally many in each order, the summands of [45] can be put in order instead of the counts: each
-        # counts of the bag are a summand of one signed sum at most.
+        # As the bag has all orders of counts equally often, the counts can be put in order in the place of q: stepped,
+        # they belong to one signed sum, or to none if two of them have become the same.
         steps = stepped(key)
         sign = sign_of(steps)
         if sign != 0:

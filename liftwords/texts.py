@@ -2,7 +2,7 @@
 
 from liftwords.deeds import MOST_DEEDS, check_row
 from liftwords.errors import BadDeed, BadMove, BadText
-from liftwords.moves import FIRST, IN, LAST, OUT, is_move
+from liftwords.moves import is_move
 from liftwords.tables import Table
 from liftwords.words import Word, check_size
 
@@ -12,7 +12,7 @@ FIGURES = "0123456789"
 MOST_FIGURES = 3
 MOST_PLACE = 999
 # No two of these words begin with the same character.
-KINDS = (FIRST, LAST, IN, OUT)
+KINDS = ("first", "last", "in", "out")
 
 
 def joined_letters(letters):
